@@ -1,0 +1,67 @@
+// Package beacon: a follower of a chain of headers: see DOC.md.
+package beacon
+
+import (
+	"beacon/api"
+	"beacon/draw"
+)
+
+// Leads tells whether a proof is low enough for a stake (P3).
+func Leads(proof int, stake int, total int, a int, b int) (bool, api.Errno) {
+	return draw.Leads(proof, stake, total, a, b)
+}
+
+// Draw tells a pool's proof for a slot (P4).
+func Draw(nonce int, slot int, pool int) (int, api.Errno) {
+	return draw.Proof(nonce, slot, pool)
+}
+
+// Chain is a tree of headers, and the chain that is chosen.
+type Chain struct{}
+
+// New begins with the first header alone (P5).
+func New(p api.Params) (*Chain, api.Errno) { return nil, api.OK }
+
+// Turn tells what goes for a pool in a slot behind a header (P6).
+func (c *Chain) Turn(id int, slot int, pool int) (api.Turn, api.Errno) {
+	return api.Turn{}, api.OK
+}
+
+// Stake tells a pool's stake behind a header (P6).
+func (c *Chain) Stake(id int, pool int) (int, api.Errno) { return 0, api.OK }
+
+// Count tells a pool's count behind a header (P6).
+func (c *Chain) Count(id int, pool int) (int, api.Errno) { return 0, api.OK }
+
+// Offer lets a header come (P7).
+func (c *Chain) Offer(parent int, h api.Header) (int, api.Errno) { return 0, api.OK }
+
+// Look tells a header that is kept (P8).
+func (c *Chain) Look(id int) (api.Block, api.Errno) { return api.Block{}, api.OK }
+
+// Kept tells the headers that are kept (P8).
+func (c *Chain) Kept() []int { return nil }
+
+// Tip tells the last header of the chain that is chosen (P9).
+func (c *Chain) Tip() int { return 0 }
+
+// Final tells the last header that is final (P9).
+func (c *Chain) Final() int { return 0 }
+
+// Path tells all headers of the chain that is chosen (P9).
+func (c *Chain) Path() []int { return nil }
+
+// Encode writes a header (P10).
+func Encode(h api.Header) (string, api.Errno) { return "", api.OK }
+
+// Decode reads a header (P11).
+func Decode(text string) (api.Header, api.Errno) { return api.Header{}, api.OK }
+
+// Next lets a header come from a peer (P12).
+func (c *Chain) Next(peer int, text string) (int, api.Errno) { return 0, api.OK }
+
+// Back lets a peer go back to a header (P12).
+func (c *Chain) Back(peer int, id int) api.Errno { return api.OK }
+
+// Point tells at which header a peer is (P12).
+func (c *Chain) Point(peer int) (int, api.Errno) { return 0, api.OK }
