@@ -4,6 +4,8 @@ package beacon
 import (
 	"beacon/api"
 	"beacon/draw"
+	"beacon/ledger"
+	"beacon/tree"
 )
 
 // Leads tells whether a proof is low enough for a stake (P3).
@@ -17,24 +19,63 @@ func Draw(nonce int, slot int, pool int) (int, api.Errno) {
 }
 
 // Chain is a tree of headers, and the chain that is chosen.
-type Chain struct{}
+type Chain struct {
+	rules ledger.Rules
+	tree  tree.Tree
+}
 
 // New begins with the first header alone (P5).
-func New(p api.Params) (*Chain, api.Errno) { return nil, api.OK }
+func New(p api.Params) (*Chain, api.Errno) {
+	rules, page, err := ledger.Begin(p)
+	if err != api.OK {
+		return nil, err
+	}
+	headers, err := tree.Begin(p.Depth, p.Room, page)
+	if err != api.OK {
+		return nil, err
+	}
+	return &Chain{rules: rules, tree: headers}, api.OK
+}
 
 // Turn tells what goes for a pool in a slot behind a header (P6).
 func (c *Chain) Turn(id int, slot int, pool int) (api.Turn, api.Errno) {
-	return api.Turn{}, api.OK
+	node, err := c.tree.Find(id)
+	if err != api.OK {
+		return api.Turn{}, err
+	}
+	return c.rules.Turn(node.Page, slot, pool)
 }
 
 // Stake tells a pool's stake behind a header (P6).
-func (c *Chain) Stake(id int, pool int) (int, api.Errno) { return 0, api.OK }
+func (c *Chain) Stake(id int, pool int) (int, api.Errno) {
+	node, err := c.tree.Find(id)
+	if err != api.OK {
+		return 0, err
+	}
+	return c.rules.Stake(node.Page, pool)
+}
 
 // Count tells a pool's count behind a header (P6).
-func (c *Chain) Count(id int, pool int) (int, api.Errno) { return 0, api.OK }
+func (c *Chain) Count(id int, pool int) (int, api.Errno) {
+	node, err := c.tree.Find(id)
+	if err != api.OK {
+		return 0, err
+	}
+	return c.rules.Count(node.Page, pool)
+}
 
 // Offer lets a header come (P7).
-func (c *Chain) Offer(parent int, h api.Header) (int, api.Errno) { return 0, api.OK }
+func (c *Chain) Offer(parent int, h api.Header) (int, api.Errno) {
+	node, err := c.tree.Find(parent)
+	if err != api.OK {
+		return 0, err
+	}
+	page, err := c.rules.Next(node.Page, h)
+	if err != api.OK {
+		return 0, err
+	}
+	return c.tree.Add(node, h, page)
+}
 
 // Look tells a header that is kept (P8).
 func (c *Chain) Look(id int) (api.Block, api.Errno) { return api.Block{}, api.OK }

@@ -1,0 +1,96 @@
+package tree
+
+import (
+	"testing"
+
+	"beacon/api"
+	"beacon/ledger"
+)
+
+func begin(t *testing.T, depth int, room int) *Tree {
+	t.Helper()
+	tree, err := Begin(depth, room, ledger.Page{})
+	if err != api.OK {
+		t.Fatalf("Begin(%d, %d): %d", depth, room, err)
+	}
+	return &tree
+}
+
+// add lets a header come that differs from all others by its slot.
+func add(t *testing.T, tree *Tree, parent int) int {
+	t.Helper()
+	node, err := tree.Find(parent)
+	if err != api.OK {
+		t.Fatalf("Find(%d): %d", parent, err)
+	}
+	id, err := tree.Add(node, api.Header{Slot: tree.accepted}, ledger.Page{})
+	if err != api.OK {
+		t.Fatalf("Add behind %d: %d", parent, err)
+	}
+	return id
+}
+
+func checkTree(t *testing.T, tree *Tree, tip int, kept []int, past []int) {
+	t.Helper()
+	if tree.tip().ID != tip {
+		t.Errorf("the tip is %d, want %d", tree.tip().ID, tip)
+	}
+	var ids []int
+	for _, node := range tree.kept {
+		ids = append(ids, node.ID)
+	}
+	if !areEqual(ids, kept) || !areEqual(tree.past, past) {
+		t.Errorf("kept are %v and %v, want %v and %v", ids, tree.past, kept, past)
+	}
+}
+
+func areEqual(one []int, other []int) bool {
+	if len(one) != len(other) {
+		return false
+	}
+	for i := range one {
+		if one[i] != other[i] {
+			return false
+		}
+	}
+	return true
+}
+
+func TestP9TipAndWhatIsKept(t *testing.T) {
+	tree := begin(t, 2, 10)
+	checkTree(t, tree, 0, []int{0}, nil)
+	for _, c := range []struct {
+		parent, tip int
+		kept, past  []int
+	}{
+		{0, 1, []int{0, 1}, nil},
+		{0, 1, []int{0, 1, 2}, nil},
+		{2, 3, []int{0, 1, 2, 3}, nil},
+		{1, 3, []int{0, 1, 2, 3, 4}, nil},
+		{4, 5, []int{1, 4, 5}, []int{0}},
+		{1, 5, []int{1, 4, 5, 6}, []int{0}},
+		{6, 5, []int{1, 4, 5, 6, 7}, []int{0}},
+		{4, 5, []int{1, 4, 5, 6, 7, 8}, []int{0}},
+		{7, 9, []int{6, 7, 9}, []int{0, 1}},
+		{9, 10, []int{7, 9, 10}, []int{0, 1, 6}},
+	} {
+		add(t, tree, c.parent)
+		checkTree(t, tree, c.tip, c.kept, c.past)
+	}
+}
+
+func TestP8HeadersAreGivenUp(t *testing.T) {
+	tree := begin(t, 3, 5)
+	at := 0
+	for range 500 {
+		at = add(t, tree, at)
+	}
+	if len(tree.kept) != 4 || len(tree.past) != at-3 {
+		t.Errorf("%d headers are kept, and %d numbers", len(tree.kept), len(tree.past))
+	}
+	for _, node := range tree.kept {
+		if node.Height != node.ID || node.Parent != node.ID-1 || node.Header.Slot != node.ID-1 {
+			t.Errorf("header %d is kept as %+v", node.ID, node)
+		}
+	}
+}
