@@ -78,19 +78,29 @@ func (c *Chain) Offer(parent int, h api.Header) (int, api.Errno) {
 }
 
 // Look tells a header that is kept (P8).
-func (c *Chain) Look(id int) (api.Block, api.Errno) { return api.Block{}, api.OK }
+func (c *Chain) Look(id int) (api.Block, api.Errno) {
+	return c.tree.Look(id)
+}
 
 // Kept tells the headers that are kept (P8).
-func (c *Chain) Kept() []int { return nil }
+func (c *Chain) Kept() []int {
+	return c.tree.Kept()
+}
 
 // Tip tells the last header of the chain that is chosen (P9).
-func (c *Chain) Tip() int { return 0 }
+func (c *Chain) Tip() int {
+	return c.tree.Tip()
+}
 
 // Final tells the last header that is final (P9).
-func (c *Chain) Final() int { return 0 }
+func (c *Chain) Final() int {
+	return c.tree.Final()
+}
 
 // Path tells all headers of the chain that is chosen (P9).
-func (c *Chain) Path() []int { return nil }
+func (c *Chain) Path() []int {
+	return c.tree.Path()
+}
 
 // Encode writes a header (P10).
 func Encode(h api.Header) (string, api.Errno) { return "", api.OK }

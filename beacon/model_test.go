@@ -1,6 +1,7 @@
 package beacon_test
 
 import (
+	"slices"
 	"testing"
 
 	"beacon/api"
@@ -203,6 +204,27 @@ func (m *model) offer(parent int, h api.Header) (int, api.Errno) {
 	return id, api.OK
 }
 
+// keptList tells the numbers of all that are kept.
+func (m *model) keptList() []int {
+	var list []int
+	for id, kept := range m.kept {
+		if kept {
+			list = append(list, id)
+		}
+	}
+	return list
+}
+
+func (m *model) look(id int) (api.Block, api.Errno) {
+	if err := m.whyNot(id); err != api.OK {
+		return api.Block{}, err
+	}
+	if id == 0 {
+		return api.Block{}, api.OK
+	}
+	return api.Block{Header: m.headers[id], Parent: m.parents[id], Height: m.height(id)}, api.OK
+}
+
 // pair is a chain and the model beside it: what one answers the other must.
 type pair struct {
 	t *testing.T
@@ -226,7 +248,41 @@ func (x *pair) offer(parent int, h api.Header) (int, api.Errno) {
 	if id != wantID || err != wantErr {
 		x.t.Fatalf("of %+v: Offer(%d, %+v) = %d, %d, want %d, %d", x.m.p, parent, h, id, err, wantID, wantErr)
 	}
+	x.checkStand()
 	return id, err
+}
+
+// checkStand asks for the tip, for what is final and kept, and for the path.
+func (x *pair) checkStand() {
+	x.t.Helper()
+	checkStandIs(x.t, x.c, x.m.tip, x.m.final, x.m.keptList(), x.m.line(x.m.tip))
+}
+
+func checkStandIs(t *testing.T, c *beacon.Chain, tip int, final int, kept []int, path []int) {
+	t.Helper()
+	if c.Tip() != tip || c.Final() != final {
+		t.Fatalf("the tip is %d, final is %d, want %d, %d", c.Tip(), c.Final(), tip, final)
+	}
+	if list := c.Kept(); !slices.Equal(list, kept) {
+		t.Fatalf("kept are %v, want %v", list, kept)
+	}
+	if list := c.Path(); !slices.Equal(list, path) {
+		t.Fatalf("the path is %v, want %v", list, path)
+	}
+}
+
+func (x *pair) checkLook(id int) {
+	x.t.Helper()
+	want, wantErr := x.m.look(id)
+	checkLookIs(x.t, x.c, id, want, wantErr)
+}
+
+func checkLookIs(t *testing.T, c *beacon.Chain, id int, want api.Block, wantErr api.Errno) {
+	t.Helper()
+	block, err := c.Look(id)
+	if block != want || err != wantErr {
+		t.Fatalf("Look(%d) = %+v, %d, want %+v, %d", id, block, err, want, wantErr)
+	}
 }
 
 // accept offers a header that must be accepted.
@@ -296,7 +352,9 @@ func (x *pair) checkAll() {
 	x.t.Helper()
 	for id := -2; id <= len(x.m.headers)+1; id++ {
 		x.checkHeader(id)
+		x.checkLook(id)
 	}
+	x.checkStand()
 }
 
 // header makes one that may come behind a parent: of the first slot from one

@@ -54,6 +54,71 @@ func (t *Tree) Find(id int) (Node, api.Errno) {
 	return Node{}, api.ErrNone
 }
 
+// Look tells a header that is kept (P8). Callers know the first header's parent
+// as 0.
+func (t *Tree) Look(id int) (api.Block, api.Errno) {
+	node, err := t.Find(id)
+	if err != api.OK {
+		return api.Block{}, err
+	}
+	block := api.Block{Header: node.Header, Parent: node.Parent, Height: node.Height}
+	if node.Parent == noParent {
+		block.Parent = 0
+	}
+	return block, api.OK
+}
+
+// Kept tells the numbers of all that are kept, rising (P8).
+func (t *Tree) Kept() []int {
+	list := []int{}
+	for i := 0; i < len(t.kept); i++ {
+		list = append(list, t.kept[i].ID)
+	}
+	return list
+}
+
+// Tip tells the number of the highest header that is kept (P9).
+func (t *Tree) Tip() int {
+	return t.highest().ID
+}
+
+// Final tells the number of the final header (P9). A tree that Begin did not
+// make has no header at all.
+func (t *Tree) Final() int {
+	if len(t.kept) == 0 {
+		return 0
+	}
+	return t.kept[0].ID
+}
+
+// Path tells the tip's line, from 0 on (P9). The final header is in it, so that
+// the numbers that are past are its beginning.
+func (t *Tree) Path() []int {
+	path := []int{}
+	for i := 0; i < len(t.past); i++ {
+		path = append(path, t.past[i])
+	}
+	falling := t.lineDown()
+	for i := len(falling) - 1; i >= 0; i-- {
+		path = append(path, falling[i])
+	}
+	return path
+}
+
+// lineDown tells the tip's line from the tip to the final header. A parent has
+// a lower number than its children, so that one walk meets it after them.
+func (t *Tree) lineDown() []int {
+	line := []int{}
+	at := t.Tip()
+	for i := len(t.kept) - 1; i >= 0; i-- {
+		if t.kept[i].ID == at {
+			line = append(line, at)
+			at = t.kept[i].Parent
+		}
+	}
+	return line
+}
+
 // Add accepts a header that is right behind its parent, if it is new and there
 // is room (P7).
 func (t *Tree) Add(parent Node, h api.Header, page ledger.Page) (int, api.Errno) {
@@ -83,7 +148,7 @@ func (t *Tree) has(parent int, h api.Header) bool {
 // by more than one.
 func (t *Tree) settle() {
 	final := t.deepest()
-	old := t.kept[0].ID
+	old := t.Final()
 	if final.ID == old {
 		return
 	}
@@ -94,7 +159,7 @@ func (t *Tree) settle() {
 // deepest tells the header in the tip's line that is depth steps away, or the
 // first one, which has no parent to be found.
 func (t *Tree) deepest() Node {
-	at := t.tip()
+	at := t.highest()
 	for step := 0; step < t.depth; step++ {
 		parent, err := t.Find(at.Parent)
 		if err != api.OK {
@@ -105,12 +170,12 @@ func (t *Tree) deepest() Node {
 	return at
 }
 
-// tip tells the highest header, and of several the one with the least number,
-// since they are kept by rising numbers (P9).
-func (t *Tree) tip() Node {
-	best := t.kept[0]
-	for i := 1; i < len(t.kept); i++ {
-		if t.kept[i].Height > best.Height {
+// highest tells the header with the greatest height, and of several the one
+// with the least number, since they are kept by rising numbers (P9).
+func (t *Tree) highest() Node {
+	best := Node{}
+	for i := 0; i < len(t.kept); i++ {
+		if i == 0 || t.kept[i].Height > best.Height {
 			best = t.kept[i]
 		}
 	}

@@ -32,15 +32,11 @@ func add(t *testing.T, tree *Tree, parent int) int {
 
 func checkTree(t *testing.T, tree *Tree, tip int, kept []int, past []int) {
 	t.Helper()
-	if tree.tip().ID != tip {
-		t.Errorf("the tip is %d, want %d", tree.tip().ID, tip)
+	if tree.Tip() != tip || tree.Final() != kept[0] {
+		t.Errorf("the tip is %d, final is %d, want %d, %d", tree.Tip(), tree.Final(), tip, kept[0])
 	}
-	var ids []int
-	for _, node := range tree.kept {
-		ids = append(ids, node.ID)
-	}
-	if !areEqual(ids, kept) || !areEqual(tree.past, past) {
-		t.Errorf("kept are %v and %v, want %v and %v", ids, tree.past, kept, past)
+	if !areEqual(tree.Kept(), kept) || !areEqual(tree.past, past) {
+		t.Errorf("kept are %v and %v, want %v and %v", tree.Kept(), tree.past, kept, past)
 	}
 }
 
@@ -76,6 +72,31 @@ func TestP9TipAndWhatIsKept(t *testing.T) {
 	} {
 		add(t, tree, c.parent)
 		checkTree(t, tree, c.tip, c.kept, c.past)
+	}
+}
+
+// A tree that Begin did not make answers too.
+func TestP1TreeWithoutHeaders(t *testing.T) {
+	tree := &Tree{}
+	if tree.Tip() != 0 || tree.Final() != 0 || len(tree.Kept()) != 0 || len(tree.Path()) != 0 {
+		t.Errorf("it answers %d, %d, %v, %v", tree.Tip(), tree.Final(), tree.Kept(), tree.Path())
+	}
+	if block, err := tree.Look(0); block != (api.Block{}) || err != api.ErrNone {
+		t.Errorf("Look(0) = %+v, %d", block, err)
+	}
+	if id, err := tree.Add(Node{}, api.Header{}, ledger.Page{}); id != 0 || err != api.ErrFull {
+		t.Errorf("Add = %d, %d", id, err)
+	}
+}
+
+// Inside, the first header's parent is no header's number; callers see a 0.
+func TestP8ParentOfTheFirstHeader(t *testing.T) {
+	tree := begin(t, 1, 3)
+	if block, err := tree.Look(0); block != (api.Block{}) || err != api.OK {
+		t.Errorf("Look(0) = %+v, %d", block, err)
+	}
+	if block, err := tree.Look(noParent); block != (api.Block{}) || err != api.ErrNone {
+		t.Errorf("Look(%d) = %+v, %d", noParent, block, err)
 	}
 }
 
