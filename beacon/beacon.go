@@ -5,6 +5,7 @@ import (
 	"beacon/api"
 	"beacon/draw"
 	"beacon/ledger"
+	"beacon/texts"
 	"beacon/tree"
 )
 
@@ -20,8 +21,9 @@ func Draw(nonce int, slot int, pool int) (int, api.Errno) {
 
 // Chain is a tree of headers, and the chain that is chosen.
 type Chain struct {
-	rules ledger.Rules
-	tree  tree.Tree
+	rules  ledger.Rules
+	tree   tree.Tree
+	points [api.Peers]int
 }
 
 // New begins with the first header alone (P5).
@@ -66,6 +68,16 @@ func (c *Chain) Count(id int, pool int) (int, api.Errno) {
 
 // Offer lets a header come (P7).
 func (c *Chain) Offer(parent int, h api.Header) (int, api.Errno) {
+	id, err := c.take(parent, h)
+	if err != api.OK {
+		return 0, err
+	}
+	return id, api.OK
+}
+
+// take lets a header come. With ErrTwice it tells the number of the header that
+// is there, which Next asks for.
+func (c *Chain) take(parent int, h api.Header) (int, api.Errno) {
 	node, err := c.tree.Find(parent)
 	if err != api.OK {
 		return 0, err
@@ -103,16 +115,54 @@ func (c *Chain) Path() []int {
 }
 
 // Encode writes a header (P10).
-func Encode(h api.Header) (string, api.Errno) { return "", api.OK }
+func Encode(h api.Header) (string, api.Errno) {
+	return texts.Encode(h)
+}
 
 // Decode reads a header (P11).
-func Decode(text string) (api.Header, api.Errno) { return api.Header{}, api.OK }
+func Decode(text string) (api.Header, api.Errno) {
+	return texts.Decode(text)
+}
 
 // Next lets a header come from a peer (P12).
-func (c *Chain) Next(peer int, text string) (int, api.Errno) { return 0, api.OK }
+func (c *Chain) Next(peer int, text string) (int, api.Errno) {
+	if !isPeer(peer) {
+		return 0, api.ErrPeer
+	}
+	h, err := texts.Decode(text)
+	if err != api.OK {
+		return 0, err
+	}
+	point := c.points[peer]
+	id, err := c.take(point, h)
+	if err != api.OK && err != api.ErrTwice {
+		return 0, err
+	}
+	c.points[peer] = id
+	return id, api.OK
+}
 
 // Back lets a peer go back to a header (P12).
-func (c *Chain) Back(peer int, id int) api.Errno { return api.OK }
+func (c *Chain) Back(peer int, id int) api.Errno {
+	if !isPeer(peer) {
+		return api.ErrPeer
+	}
+	node, err := c.tree.Find(id)
+	if err != api.OK {
+		return err
+	}
+	c.points[peer] = node.ID
+	return api.OK
+}
 
 // Point tells at which header a peer is (P12).
-func (c *Chain) Point(peer int) (int, api.Errno) { return 0, api.OK }
+func (c *Chain) Point(peer int) (int, api.Errno) {
+	if !isPeer(peer) {
+		return 0, api.ErrPeer
+	}
+	return c.points[peer], api.OK
+}
+
+func isPeer(peer int) bool {
+	return peer >= 0 && peer < api.Peers
+}

@@ -17,6 +17,7 @@ type model struct {
 	kept    []bool
 	tip     int
 	final   int
+	points  [4]int
 }
 
 func newModel(p api.Params) *model {
@@ -167,16 +168,10 @@ func (m *model) refusal(parent int, h api.Header) api.Errno {
 	if !turn.Leads {
 		return api.ErrLeader
 	}
-	number := 0
-	for id := range m.headers {
-		if m.kept[id] && m.parents[id] == parent && m.headers[id] == h {
-			return api.ErrTwice
-		}
-		if m.kept[id] {
-			number++
-		}
+	if m.twin(parent, h) >= 0 {
+		return api.ErrTwice
 	}
-	if number == m.p.Room {
+	if len(m.keptList()) == m.p.Room {
 		return api.ErrFull
 	}
 	return api.OK
@@ -202,6 +197,47 @@ func (m *model) offer(parent int, h api.Header) (int, api.Errno) {
 		m.kept[at] = m.kept[at] && m.isInLine(m.final, at)
 	}
 	return id, api.OK
+}
+
+// twin tells the header that is there already.
+func (m *model) twin(parent int, h api.Header) int {
+	for id := range m.headers {
+		if m.kept[id] && m.parents[id] == parent && m.headers[id] == h {
+			return id
+		}
+	}
+	return -1
+}
+
+func isPeer(peer int) bool { return peer >= 0 && peer <= 3 }
+
+func (m *model) next(peer int, text string) (int, api.Errno) {
+	if !isPeer(peer) {
+		return 0, api.ErrPeer
+	}
+	h, is := plainHeader(text)
+	if !is {
+		return 0, api.ErrForm
+	}
+	id, err := m.offer(m.points[peer], h)
+	if err == api.ErrTwice {
+		id, err = m.twin(m.points[peer], h), api.OK
+	}
+	if err == api.OK {
+		m.points[peer] = id
+	}
+	return id, err
+}
+
+func (m *model) back(peer int, id int) api.Errno {
+	if !isPeer(peer) {
+		return api.ErrPeer
+	}
+	err := m.whyNot(id)
+	if err == api.OK {
+		m.points[peer] = id
+	}
+	return err
 }
 
 // keptList tells the numbers of all that are kept.
@@ -252,10 +288,48 @@ func (x *pair) offer(parent int, h api.Header) (int, api.Errno) {
 	return id, err
 }
 
-// checkStand asks for the tip, for what is final and kept, and for the path.
+func (x *pair) next(peer int, text string) (int, api.Errno) {
+	x.t.Helper()
+	id, err := x.c.Next(peer, text)
+	wantID, wantErr := x.m.next(peer, text)
+	if id != wantID || err != wantErr {
+		x.t.Fatalf("of %+v: Next(%d, %.99q) = %d, %d, want %d, %d", x.m.p, peer, text, id, err, wantID, wantErr)
+	}
+	x.checkStand()
+	return id, err
+}
+
+func (x *pair) back(peer int, id int) api.Errno {
+	x.t.Helper()
+	err := x.c.Back(peer, id)
+	if wantErr := x.m.back(peer, id); err != wantErr {
+		x.t.Fatalf("of %+v: Back(%d, %d): %d, want %d", x.m.p, peer, id, err, wantErr)
+	}
+	x.checkStand()
+	return err
+}
+
+// checkStand asks for the tip, for what is final and kept, for the path, and
+// for the peers' points.
 func (x *pair) checkStand() {
 	x.t.Helper()
 	checkStandIs(x.t, x.c, x.m.tip, x.m.final, x.m.keptList(), x.m.line(x.m.tip))
+	checkPointsAre(x.t, x.c, x.m.points)
+}
+
+// checkPointsAre asks for each peer's point, and for those of the numbers
+// around, which are no peers'.
+func checkPointsAre(t *testing.T, c *beacon.Chain, points [4]int) {
+	t.Helper()
+	for peer := -1; peer <= len(points); peer++ {
+		want, wantErr := 0, api.ErrPeer
+		if isPeer(peer) {
+			want, wantErr = points[peer], api.OK
+		}
+		if point, err := c.Point(peer); point != want || err != wantErr {
+			t.Fatalf("Point(%d) = %d, %d, want %d, %d", peer, point, err, want, wantErr)
+		}
+	}
 }
 
 func checkStandIs(t *testing.T, c *beacon.Chain, tip int, final int, kept []int, path []int) {

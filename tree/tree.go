@@ -120,10 +120,11 @@ func (t *Tree) lineDown() []int {
 }
 
 // Add accepts a header that is right behind its parent, if it is new and there
-// is room (P7).
+// is room (P7). With ErrTwice it tells the number of the header that is there.
 func (t *Tree) Add(parent Node, h api.Header, page ledger.Page) (int, api.Errno) {
-	if t.has(parent.ID, h) {
-		return 0, api.ErrTwice
+	twin, isThere := t.twin(parent.ID, h)
+	if isThere {
+		return twin, api.ErrTwice
 	}
 	if len(t.kept) >= t.room {
 		return 0, api.ErrFull
@@ -134,13 +135,14 @@ func (t *Tree) Add(parent Node, h api.Header, page ledger.Page) (int, api.Errno)
 	return t.accepted, api.OK
 }
 
-func (t *Tree) has(parent int, h api.Header) bool {
+// twin tells the number of the header that is the same, if one is kept.
+func (t *Tree) twin(parent int, h api.Header) (int, bool) {
 	for i := 0; i < len(t.kept); i++ {
 		if t.kept[i].Parent == parent && t.kept[i].Header == h {
-			return true
+			return t.kept[i].ID, true
 		}
 	}
-	return false
+	return 0, false
 }
 
 // settle tells anew what is final, and drops what does not have it in its line

@@ -115,3 +115,23 @@ func TestP8HeadersAreGivenUp(t *testing.T) {
 		}
 	}
 }
+
+// With ErrTwice comes the number of the header that is there, also in a full
+// tree; nothing is added.
+func TestP12NumberOfTheHeaderThatIsThere(t *testing.T) {
+	tree := begin(t, 3, 4)
+	for _, parent := range []int{0, 1, 1} {
+		add(t, tree, parent)
+	}
+	for _, node := range tree.kept[1:] {
+		parent, err := tree.Find(node.Parent)
+		if err != api.OK {
+			t.Fatalf("Find(%d): %d", node.Parent, err)
+		}
+		id, err := tree.Add(parent, node.Header, ledger.Page{})
+		if id != node.ID || err != api.ErrTwice {
+			t.Errorf("Add of header %d = %d, %d", node.ID, id, err)
+		}
+	}
+	checkTree(t, tree, 2, []int{0, 1, 2, 3}, nil)
+}
